@@ -1,0 +1,1 @@
+"""Classes with laws, and their finite instances."""
