@@ -25,6 +25,10 @@ class ToldInstance:
         self.rows = rows
 
 
+def has_all(instance, numbers):
+    return all([0 <= number < instance.size for number in numbers])
+
+
 # Gives None if the text isn't readable, isn't one tree, or that's no instance.
 def read_instance(text):
     tree = read_one_tree(text)

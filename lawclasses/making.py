@@ -1,8 +1,10 @@
-"""The calls that make new instances of old ones: product."""
+"""The calls that make new instances of old ones: product, part and quotient."""
 
-from lawclasses.instance import Instance
+from lawclasses.instance import has_all
+from lawclasses.parts import generated_by, part_of
+from lawclasses.products import product_of
+from lawclasses.quotients import held_to_be_one, quotient_of
 from lawclasses.store import find_class, find_instance, has_all_instances, keep_instance
-from lawclasses.terms import columns_of_rows, results_at, row_count
 from lawclasses.words import is_upper_name
 
 MOST_SIZE = 36
@@ -24,6 +26,39 @@ def product_call(table, class_name, first_name, second_name, new_name):
     return [product.size]
 
 
+def part_call(table, chosen, class_name, name, new_name):
+    instance = find_instance(table, class_name, name)
+    if instance is None:
+        return [-3]
+    lawclass = find_class(table, class_name)
+    refusal = new_name_refusal(table, lawclass, tuple(new_name))
+    if refusal < 0:
+        return [refusal]
+    if not has_all(instance, chosen):
+        return [-5]
+    members = generated_by(lawclass, instance, chosen)
+    if len(members) == 0:
+        return [-6]
+    keep_instance(lawclass, part_of(lawclass, instance, members, tuple(new_name)))
+    return [len(members)] + members
+
+
+def quotient_call(table, chosen, class_name, name, new_name):
+    instance = find_instance(table, class_name, name)
+    if instance is None:
+        return [-3]
+    lawclass = find_class(table, class_name)
+    refusal = new_name_refusal(table, lawclass, tuple(new_name))
+    if refusal < 0:
+        return [refusal]
+    if len(chosen) % 2 != 0 or not has_all(instance, chosen):
+        return [-5]
+    least = held_to_be_one(lawclass, instance, pairs_of(chosen))
+    quotient = quotient_of(lawclass, instance, least, tuple(new_name))
+    keep_instance(lawclass, quotient)
+    return [quotient.size] + least
+
+
 # 0 if an instance with the new name may come into the table.
 def new_name_refusal(table, lawclass, name):
     if not is_upper_name(name):
@@ -35,27 +70,5 @@ def new_name_refusal(table, lawclass, name):
     return 0
 
 
-def product_of(lawclass, first, second, name):
-    results = {}
-    for operation, arity in lawclass.operations:
-        results[operation] = product_results(operation, arity, first, second)
-    return Instance(name, first.size * second.size, results)
-
-
-def product_results(operation, arity, first, second):
-    size = first.size * second.size
-    count = row_count(size, arity)
-    pairs = columns_of_rows(size, arity)
-    first_columns = [first_halves(column, second.size) for column in pairs]
-    second_columns = [second_halves(column, second.size) for column in pairs]
-    first_results = results_at(first.results[operation], first.size, first_columns, count)
-    second_results = results_at(second.results[operation], second.size, second_columns, count)
-    return [one * second.size + other for one, other in zip(first_results, second_results)]
-
-
-def first_halves(pairs, second_size):
-    return [pair // second_size for pair in pairs]
-
-
-def second_halves(pairs, second_size):
-    return [pair % second_size for pair in pairs]
+def pairs_of(numbers):
+    return [(numbers[place], numbers[place + 1]) for place in range(0, len(numbers), 2)]

@@ -1,7 +1,7 @@
 """The interface: calls on one new object, laid out as one list of whole numbers."""
 
-from lawclasses.asking import tell_call, value_call
-from lawclasses.making import product_call
+from lawclasses.asking import maps_call, tell_call, value_call
+from lawclasses.making import part_call, product_call, quotient_call
 from lawclasses.store import Table
 from lawclasses.taking import class_call, fault_call, instance_call
 
@@ -10,9 +10,12 @@ INSTANCE = 1
 FAULT = 2
 VALUE = 3
 PRODUCT = 4
+PART = 5
+QUOTIENT = 6
+MAPS = 7
 
-# For each call's number how many rows it has; 8 is tell, the one that's left when all others are asked for.
-ROWS = {0: 1, 1: 1, 2: 1, 3: 4, 4: 4, 8: 2}
+# How many rows each call has, by its number; 8 is tell, the one that's left when all others are asked for.
+ROWS = (1, 1, 1, 4, 4, 4, 4, 3, 2)
 
 
 def answers(calls):
@@ -21,12 +24,18 @@ def answers(calls):
     place = 0
     while place < len(calls):
         number = calls[place]
-        rows = rows_from(calls, place + 1, ROWS[number])
-        place = place + 1 + sum([1 + len(row) for row in rows])
-        answer = answer_to(table, number, rows)
+        start = place + 1 + plain_count(number)
+        rows = rows_from(calls, start, ROWS[number])
+        answer = answer_to(table, number, calls[place + 1:start], rows)
+        place = start + sum([1 + len(row) for row in rows])
         answered.append(len(answer))
         answered.extend(answer)
     return answered
+
+
+# How many whole numbers of its own a call has ahead of its rows.
+def plain_count(number):
+    return 1 if number == MAPS else 0
 
 
 def rows_from(calls, start, count):
@@ -39,7 +48,7 @@ def rows_from(calls, start, count):
     return rows
 
 
-def answer_to(table, number, rows):
+def answer_to(table, number, plain, rows):
     if number == CLASS:
         return class_call(table, rows[0])
     if number == INSTANCE:
@@ -50,4 +59,10 @@ def answer_to(table, number, rows):
         return value_call(table, rows[0], rows[1], rows[2], rows[3])
     if number == PRODUCT:
         return product_call(table, rows[0], rows[1], rows[2], rows[3])
+    if number == PART:
+        return part_call(table, rows[0], rows[1], rows[2], rows[3])
+    if number == QUOTIENT:
+        return quotient_call(table, rows[0], rows[1], rows[2], rows[3])
+    if number == MAPS:
+        return maps_call(table, plain[0], rows[0], rows[1], rows[2])
     return tell_call(table, rows[0], rows[1])

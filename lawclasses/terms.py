@@ -43,11 +43,14 @@ def row_count(size, places):
 def columns_of_rows(size, places):
     count = row_count(size, places)
     columns = []
-    step = count
     for place in range(places):
-        step = step // size
+        step = row_count(size, places - place - 1)
         columns.append([(row // step) % size for row in range(count)])
     return columns
+
+
+def picked(values, places):
+    return [values[place] for place in places]
 
 
 # What an operation gives at each of count rows; results are its values in the order of rows.

@@ -1,8 +1,12 @@
 """Calls in plain words: they are laid out for the program, and its answers are taken apart."""
 
+import itertools
+
 from lawclasses.table import answers
 
-NUMBERS = {"class": 0, "instance": 1, "fault": 2, "value": 3, "product": 4, "tell": 8}
+NUMBERS = {
+    "class": 0, "instance": 1, "fault": 2, "value": 3, "product": 4, "part": 5, "quotient": 6, "maps": 7, "tell": 8,
+}
 
 GROUP = (
     "(class Group ((e 0) (inv 1) (mul 2)) ((assoc (mul A (mul B C)) (mul (mul A B) C))"
@@ -19,10 +23,14 @@ def numbers_of(row):
 
 
 def laid_out(calls):
+    """A row is a text or a list; a whole number stands by itself, without a count."""
     numbers = []
     for call in calls:
         numbers.append(NUMBERS[call[0]])
         for row in call[1:]:
+            if isinstance(row, int):
+                numbers.append(row)
+                continue
             row = numbers_of(row)
             numbers.append(len(row))
             numbers.extend(row)
@@ -66,3 +74,50 @@ def many_classes(count):
 
 def many_instances(count, of="C0"):
     return [("instance", f"(instance {of} S{k} 1 ())") for k in range(count)]
+
+
+def sized(*sizes):
+    """A class C without operations, with an instance N<size> for each size: parts of one of 36 elements."""
+    calls = [("class", "(class C () ())"), ("instance", "(instance C Six 6 ())"), ("product", "C", "Six", "Six", "Most")]
+    return calls + [("part", range(size), "C", "Most", f"N{size}") for size in sizes]
+
+
+class Plain:
+    """An instance of a class M with the operations o0, o1, .., kept the plainest way: a dict of rows for each."""
+
+    def __init__(self, size, tables):
+        self.size = size
+        self.tables = tables
+
+    def text(self, name):
+        rows = []
+        for k, table in enumerate(self.tables):
+            values = [table[row] for row in sorted(table)]
+            rows.append(f"(o{k} {' '.join(map(str, values))})")
+        return f"(instance M {name} {self.size} ({' '.join(rows)}))"
+
+
+def plain_class(arities):
+    return ("class", f"(class M ({' '.join(f'(o{k} {arity})' for k, arity in enumerate(arities))}) ())")
+
+
+def scrambled(seed, size, arities):
+    """An instance without a pattern, and the same each time."""
+    state = seed
+    tables = []
+    for arity in arities:
+        table = {}
+        for row in itertools.product(range(size), repeat=arity):
+            state = (state * 1103515245 + 12345) % 2 ** 31
+            table[row] = (state >> 16) % size
+        tables.append(table)
+    return Plain(size, tables)
+
+
+def from_rule(size, *rules):
+    """Each rule a function from 0, 1 or 2 elements to an element."""
+    tables = []
+    for rule in rules:
+        rows = itertools.product(range(size), repeat=rule.__code__.co_argcount)
+        tables.append({row: rule(*row) for row in rows})
+    return Plain(size, tables)

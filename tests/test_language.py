@@ -28,12 +28,20 @@ UNUSED_WORDS = re.compile(
     r"\b(type|typing|typing_extensions|enum|Enum|IntEnum|StrEnum|Flag|IntFlag|Generic|Protocol|ABC|ABCMeta"
     r"|namedtuple|NamedTuple|TypedDict|TYPE_CHECKING|abstractmethod)\b|dataclass|overload|contextmanager"
 )
-WALKED_AT_ONCE = ("zip", "enumerate", "reversed", "range")
+WALKED_AT_ONCE = ("zip", "enumerate", "reversed", "range", "items", "keys", "values")
+CHANGING = ("append", "clear", "extend", "insert", "pop", "remove", "reverse", "setdefault", "update")
+WALKING = ("list", "tuple", "dict", "sorted", "sum", "any", "all", "enumerate", "zip", "min", "max")
 
 
 def bound_names(scope):
     names = [node.arg for node in ast.walk(scope) if isinstance(node, ast.arg)]
     return names + [node.id for node in ast.walk(scope) if isinstance(node, ast.Name) and isinstance(node.ctx, ast.Store)]
+
+
+def called_name(node):
+    if not isinstance(node, ast.Call):
+        return None
+    return node.func.id if isinstance(node.func, ast.Name) else node.func.attr
 
 
 def is_plain(value):
@@ -134,10 +142,33 @@ class Rules(unittest.TestCase):
         for place, node in self.each_node():
             if isinstance(node, ast.Call) and isinstance(node.func, ast.Attribute):
                 self.assertIn(node.func.attr, METHODS, place)
-            if isinstance(node, (ast.Assign, ast.Return)) and isinstance(node.value, ast.Call):
-                called = node.value.func
-                if isinstance(called, ast.Name):
-                    self.assertNotIn(called.id, WALKED_AT_ONCE, place)
+
+    def test_walks_and_sets(self):
+        above = {}
+        for place, node in self.each_node():
+            for part in ast.iter_child_nodes(node):
+                above[part] = node
+        for place, node in self.each_node():
+            called = called_name(node)
+            parent = above.get(node)
+            if called in WALKED_AT_ONCE:
+                walked = isinstance(parent, (ast.For, ast.comprehension)) and parent.iter is node
+                handed = called_name(parent) in WALKING and node is parent.args[0]
+                self.assertTrue(walked or handed, place)
+            if called == "set":
+                self.assertTrue(called_name(parent) in ("sorted", "len") or isinstance(parent, ast.Compare), place)
+
+    def test_nothing_walked_is_changed(self):
+        for place, node in self.each_node():
+            if not isinstance(node, ast.For):
+                continue
+            walked = {part.id for part in ast.walk(node.iter) if isinstance(part, ast.Name)}
+            for part in ast.walk(node):
+                if isinstance(part, ast.Call) and isinstance(part.func, ast.Attribute):
+                    if part.func.attr in CHANGING:
+                        self.assertNotIn(ast.unparse(part.func.value), walked, place)
+                if isinstance(part, ast.Subscript) and isinstance(part.ctx, ast.Store):
+                    self.assertNotIn(ast.unparse(part.value), walked, place)
 
     def test_imports(self):
         drawn = {}

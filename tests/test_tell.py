@@ -32,6 +32,42 @@ class Tells(unittest.TestCase):
         text = f"(instance Group Twelve 12 ((e 0) (inv {inverse}) (mul {product})))"
         self.assertEqual(last(*six, ("tell", "Group", "Twelve")), with_text(12, text))
 
+    def test_parts_and_quotients(self):
+        # Numbers are told anew: 1, 3 and 5 stand as 0, 1 and 2; 0, 1 and 2 for what is one with 0, 2 and 3.
+        calls = (
+            ("class", "(class C ((e 0) (f 1) (m 2)) ())"),
+            ("instance", f"(instance C S 6 ((e 5) (f 0 3 0 5 4 1) (m {' '.join(['1'] * 35)} 3)))"),
+            ("part", [], "C", "S", "P"),
+            ("tell", "C", "P"),
+            ("instance", "(instance C T 4 ((e 3) (f 2 2 3 0) (m 0 1 2 3 1 0 2 3 3 3 2 2 1 0 2 2)))"),
+            ("quotient", [1, 0], "C", "T", "Q"),
+            ("tell", "C", "Q"),
+        )
+        answered = ask(*calls)
+        part = with_text(3, "(instance C P 3 ((e 2) (f 1 2 0) (m 0 0 0 0 0 0 0 0 1)))")
+        self.assertEqual(answered[2:4], [[3, 1, 3, 5], part])
+        quotient = with_text(3, "(instance C Q 3 ((e 2) (f 1 2 0) (m 0 1 2 2 1 1 0 1 1)))")
+        self.assertEqual(answered[4][0], 3)
+        self.assertEqual(answered[5:], [[3, 0, 0, 2, 3], quotient])
+
+    def test_parts_and_quotients_of_more_than_6(self):
+        values = " ".join(str((a + b) % 6) for a in range(6) for b in range(6))
+        calls = (
+            ("class", "(class C ((e 0) (m 2)) ())"),
+            ("instance", f"(instance C S 6 ((e 0) (m {values})))"),
+            ("product", "C", "S", "S", "Most"),
+            ("part", [2, 6], "C", "Most", "P"),
+            ("tell", "C", "P"),
+            ("quotient", [0, 3], "C", "Most", "Q"),
+            ("tell", "C", "Q"),
+        )
+        answered = ask(*calls)[3:]
+        part = " ".join(str((a // 3 + b // 3) % 6 * 3 + (a + b) % 3) for a in range(18) for b in range(18))
+        self.assertEqual(answered[0], [18] + [a for a in range(36) if a % 2 == 0])
+        self.assertEqual(answered[1], with_text(18, f"(instance C P 18 ((e 0) (m {part})))"))
+        self.assertEqual(answered[2], [18] + [a // 6 * 6 + a % 3 for a in range(36)])
+        self.assertEqual(answered[3], with_text(18, f"(instance C Q 18 ((e 0) (m {part})))"))
+
     def test_largest_answer(self):
         operations = " ".join(f"(f{k} 2)" for k in range(6))
         rows = " ".join(f"(f{k} {' '.join(['5'] * 36)})" for k in range(6))

@@ -39,6 +39,16 @@ class Values(unittest.TestCase):
                 self.assertEqual(value([a, b], "(m (f A) (m e (f B)))"), [M[F[a]][M[E][F[b]]]])
                 self.assertEqual(value([a, b], "(f (m (m A B) (f e)))"), [F[M[M[a][b]][F[E]]]])
 
+    def test_names_of_several_bytes(self):
+        calls = (
+            ("class", "(class C ((zero' 0) (next1 1) (ze 0)) ((law (next1 ze) (next1 zero'))))"),
+            ("instance", "(instance C S 3 ((zero' 2) (next1 1 2 2) (ze 1)))"),
+        )
+        for term, number in (("zero'", 2), ("ze", 1), ("(next1 ze)", 2), ("(next1 (next1 zero'))", 2)):
+            self.assertEqual(ask(*calls, ("value", [], "C", "S", term)), [[1], [1], [number]], term)
+        fault = ("fault", "(instance C T 3 ((zero' 0) (next1 1 2 2) (ze 1)))")
+        self.assertEqual(last(*calls, fault), with_text(7, "(law)"))
+
     def test_without_variables(self):
         self.assertEqual(value([], "(m e (f e))"), [M[E][F[E]]])
 
