@@ -11,14 +11,12 @@ MOST_SIZE = 36
 
 
 def product_call(table, class_name, first_name, second_name, new_name):
-    first = find_instance(table, class_name, first_name)
-    second = find_instance(table, class_name, second_name)
-    if first is None or second is None:
-        return [-3]
-    lawclass = find_class(table, class_name)
-    refusal = new_name_refusal(table, lawclass, tuple(new_name))
+    refusal = making_refusal(table, class_name, [first_name, second_name], new_name)
     if refusal < 0:
         return [refusal]
+    lawclass = find_class(table, class_name)
+    first = find_instance(table, class_name, first_name)
+    second = find_instance(table, class_name, second_name)
     if first.size * second.size > MOST_SIZE:
         return [-6]
     product = product_of(lawclass, first, second, tuple(new_name))
@@ -27,13 +25,11 @@ def product_call(table, class_name, first_name, second_name, new_name):
 
 
 def part_call(table, chosen, class_name, name, new_name):
-    instance = find_instance(table, class_name, name)
-    if instance is None:
-        return [-3]
-    lawclass = find_class(table, class_name)
-    refusal = new_name_refusal(table, lawclass, tuple(new_name))
+    refusal = making_refusal(table, class_name, [name], new_name)
     if refusal < 0:
         return [refusal]
+    lawclass = find_class(table, class_name)
+    instance = find_instance(table, class_name, name)
     if not has_all(instance, chosen):
         return [-5]
     members = generated_by(lawclass, instance, chosen)
@@ -44,13 +40,11 @@ def part_call(table, chosen, class_name, name, new_name):
 
 
 def quotient_call(table, chosen, class_name, name, new_name):
-    instance = find_instance(table, class_name, name)
-    if instance is None:
-        return [-3]
-    lawclass = find_class(table, class_name)
-    refusal = new_name_refusal(table, lawclass, tuple(new_name))
+    refusal = making_refusal(table, class_name, [name], new_name)
     if refusal < 0:
         return [refusal]
+    lawclass = find_class(table, class_name)
+    instance = find_instance(table, class_name, name)
     if len(chosen) % 2 != 0 or not has_all(instance, chosen):
         return [-5]
     least = held_to_be_one(lawclass, instance, pairs_of(chosen))
@@ -59,11 +53,13 @@ def quotient_call(table, chosen, class_name, name, new_name):
     return [quotient.size] + least
 
 
-# 0 if an instance with the new name may come into the table.
-def new_name_refusal(table, lawclass, name):
-    if not is_upper_name(name):
+# What all three look at first: 0 if the old ones are there, and one with the new name may come into the table.
+def making_refusal(table, class_name, old_names, new_name):
+    if any([find_instance(table, class_name, name) is None for name in old_names]):
+        return -3
+    if not is_upper_name(tuple(new_name)):
         return -1
-    if name in lawclass.instances:
+    if find_instance(table, class_name, new_name) is not None:
         return -2
     if has_all_instances(table):
         return -8

@@ -17,6 +17,16 @@ BAD = "(instance Group Bad 2 ((e 0) (inv 0 1) (mul 0 1 1 1)))"
 FOUR = "(instance Group Four 4 ((e 0) (inv 0 1 2 3) (mul 0 1 2 3 1 0 3 2 2 3 0 1 3 2 1 0)))"
 THREE = "(instance Group Three 3 ((e 0) (inv 0 2 1) (mul 0 1 2 1 2 0 2 0 1)))"
 
+SOME_GROUPS = (
+    ("class", GROUP),
+    ("instance", TWO),
+    ("instance", THREE),
+    ("product", "Group", "Two", "Two", "Four"),
+    ("product", "Group", "Two", "Three", "Six"),
+)
+NO_UPPER_NAMES = ("", "new", "1", "'N", "N ", " N", "N-", "(N)", "N\n", "N M", '"N"', [78, 200], [0])
+LARGE = (10 ** 18, -10 ** 18, 2 ** 32, 2 ** 63 - 1, 256, -256, 2 ** 32 + 1, -2 ** 32)
+
 
 def numbers_of(row):
     return [ord(sign) for sign in row] if isinstance(row, str) else list(row)
@@ -78,7 +88,8 @@ def many_instances(count, of="C0"):
 
 def sized(*sizes):
     """A class C without operations, with an instance N<size> for each size: parts of one of 36 elements."""
-    calls = [("class", "(class C () ())"), ("instance", "(instance C Six 6 ())"), ("product", "C", "Six", "Six", "Most")]
+    calls = [("class", "(class C () ())"), ("instance", "(instance C Six 6 ())")]
+    calls.append(("product", "C", "Six", "Six", "Most"))
     return calls + [("part", range(size), "C", "Most", f"N{size}") for size in sizes]
 
 
@@ -95,6 +106,14 @@ class Plain:
             values = [table[row] for row in sorted(table)]
             rows.append(f"(o{k} {' '.join(map(str, values))})")
         return f"(instance M {name} {self.size} ({' '.join(rows)}))"
+
+    def numbered_anew(self, members, least):
+        """The instance of these members alone, where a value counts as the least that it's one with."""
+        tables = []
+        for table in self.tables:
+            rows = {row: value for row, value in table.items() if set(row) <= set(members)}
+            tables.append({tuple(map(members.index, row)): members.index(least[value]) for row, value in rows.items()})
+        return Plain(len(members), tables)
 
 
 def plain_class(arities):

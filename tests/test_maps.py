@@ -1,16 +1,7 @@
 import itertools
 import unittest
 
-from tests.helper import GROUP, THREE, TWO, ask, from_rule, last, many_classes, plain_class, scrambled, sized
-
-GROUPS = (
-    ("class", GROUP),
-    ("instance", TWO),
-    ("instance", THREE),
-    ("product", "Group", "Two", "Two", "Four"),
-    ("product", "Group", "Two", "Three", "Six"),
-)
-LARGE = (10 ** 18, -10 ** 18, 2 ** 32, 2 ** 63 - 1, 2 ** 32 + 1, -2 ** 32)
+from tests.helper import LARGE, SOME_GROUPS, TWO, ask, from_rule, last, many_classes, plain_class, scrambled, sized
 
 
 def is_map(row, first, second):
@@ -40,19 +31,19 @@ class Maps(unittest.TestCase):
         self.assertEqual(answered, [answer_of(found, most) for most in limits])
 
     def test_example(self):
-        self.assertEqual(last(*GROUPS, ("maps", 9, "Group", "Four", "Two")),
+        self.assertEqual(last(*SOME_GROUPS, ("maps", 9, "Group", "Four", "Two")),
                          [4, 0, 0, 0, 0, 0, 0, 1, 1, 0, 1, 0, 1, 0, 1, 1, 0])
 
     def test_most(self):
         rows = [0, 0, 0, 0, 0, 0, 1, 1, 0, 1, 0, 1, 0, 1, 1, 0]
         for most in range(8):
-            self.assertEqual(last(*GROUPS, ("maps", most, "Group", "Four", "Two")), [4] + rows[:4 * most])
-        self.assertEqual(last(*GROUPS, ("maps", 100, "Group", "Four", "Two")), [4] + rows)
+            self.assertEqual(last(*SOME_GROUPS, ("maps", most, "Group", "Four", "Two")), [4] + rows[:4 * most])
+        self.assertEqual(last(*SOME_GROUPS, ("maps", 100, "Group", "Four", "Two")), [4] + rows)
 
     def test_one(self):
         for most, rows in ((0, []), (1, [0, 0, 0]), (100, [0, 0, 0])):
-            self.assertEqual(last(*GROUPS, ("maps", most, "Group", "Three", "Two")), [1] + rows)
-        self.assertEqual(last(*GROUPS, ("maps", 5, "Group", "Two", "Three")), [1, 0, 0])
+            self.assertEqual(last(*SOME_GROUPS, ("maps", most, "Group", "Three", "Two")), [1] + rows)
+        self.assertEqual(last(*SOME_GROUPS, ("maps", 5, "Group", "Two", "Three")), [1, 0, 0])
 
     def test_none(self):
         # The first has an element that f leaves as it is, the second has none.
@@ -77,9 +68,9 @@ class Maps(unittest.TestCase):
             self.check(first, second, [])
 
     def test_to_itself(self):
-        self.assertEqual(last(*GROUPS, ("maps", 9, "Group", "Three", "Three")), [3, 0, 0, 0, 0, 1, 2, 0, 2, 1])
-        self.assertEqual(last(*GROUPS, ("maps", 9, "Group", "Two", "Two")), [2, 0, 0, 0, 1])
-        four = last(*GROUPS, ("maps", 100, "Group", "Four", "Four"))
+        self.assertEqual(last(*SOME_GROUPS, ("maps", 9, "Group", "Three", "Three")), [3, 0, 0, 0, 0, 1, 2, 0, 2, 1])
+        self.assertEqual(last(*SOME_GROUPS, ("maps", 9, "Group", "Two", "Two")), [2, 0, 0, 0, 1])
+        four = last(*SOME_GROUPS, ("maps", 100, "Group", "Four", "Four"))
         self.assertEqual(four[0], 16)
         rows = [four[1 + 4 * k:5 + 4 * k] for k in range(16)]
         self.assertEqual(rows, [[0, a, b, a ^ b] for a in range(4) for b in range(4)])
@@ -132,7 +123,7 @@ class Maps(unittest.TestCase):
         self.assertTrue({0, 1, 2, 3, 4, 9} <= counts, counts)
 
     def test_of_products_parts_and_quotients(self):
-        calls = GROUPS + (
+        calls = SOME_GROUPS + (
             ("part", [3], "Group", "Six", "P"),
             ("quotient", [1, 0], "Group", "Six", "Q"),
             ("maps", 100, "Group", "P", "Q"),
@@ -153,7 +144,7 @@ class Maps(unittest.TestCase):
         self.assertEqual(rows, sorted(set(rows)))
 
     def test_changes_nothing(self):
-        calls = GROUPS + (("maps", 9, "Group", "Four", "Two"),) * 2
+        calls = SOME_GROUPS + (("maps", 9, "Group", "Four", "Two"),) * 2
         answered = ask(*calls, ("instance", TWO.replace("Two", "New")))
         self.assertEqual(answered[5], answered[6])
         self.assertEqual(answered[7], [5])
@@ -205,7 +196,7 @@ class Sizes(unittest.TestCase):
 
 
 class Refusals(unittest.TestCase):
-    def maps(self, *rows, before=GROUPS):
+    def maps(self, *rows, before=SOME_GROUPS):
         return last(*before, ("maps",) + rows)
 
     def test_no_such_class_or_instance(self):
@@ -215,7 +206,7 @@ class Refusals(unittest.TestCase):
                 self.assertEqual(self.maps(most, *rows), [-3], rows)
 
     def test_instance_of_another_class(self):
-        before = GROUPS + (("class", "(class C () ())"), ("instance", "(instance C S 1 ())"))
+        before = SOME_GROUPS + (("class", "(class C () ())"), ("instance", "(instance C S 1 ())"))
         self.assertEqual(self.maps(1, "Group", "Two", "S", before=before), [-3])
         self.assertEqual(self.maps(1, "Group", "S", "Two", before=before), [-3])
         self.assertEqual(self.maps(1, "C", "S", "Two", before=before), [-3])

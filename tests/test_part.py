@@ -1,17 +1,8 @@
 import itertools
 import unittest
 
-from tests.helper import GROUP, THREE, TWO, Plain, ask, from_rule, last, many_classes, many_instances
-from tests.helper import plain_class, scrambled, sized, with_text
-
-GROUPS = (
-    ("class", GROUP),
-    ("instance", TWO),
-    ("instance", THREE),
-    ("product", "Group", "Two", "Two", "Four"),
-    ("product", "Group", "Two", "Three", "Six"),
-)
-LARGE = (10 ** 18, -10 ** 18, 2 ** 32, 2 ** 63 - 1, 256, -256)
+from tests.helper import LARGE, NO_UPPER_NAMES, SOME_GROUPS, TWO, ask, from_rule, last, many_classes
+from tests.helper import many_instances, plain_class, scrambled, sized, with_text
 
 
 def generated(instance, chosen):
@@ -28,44 +19,37 @@ def generated(instance, chosen):
     return sorted(members)
 
 
-def restricted(instance, members):
-    tables = []
-    for table in instance.tables:
-        within = {row: value for row, value in table.items() if set(row) <= set(members)}
-        tables.append({tuple(map(members.index, row)): members.index(value) for row, value in within.items()})
-    return Plain(len(members), tables)
-
-
 class Parts(unittest.TestCase):
     def check(self, instance, chosen, members):
         arities = [len(next(iter(table))) for table in instance.tables]
         calls = [plain_class(arities), ("instance", instance.text("S")), ("part", chosen, "M", "S", "P")]
         answered = ask(*calls, ("tell", "M", "P"), ("tell", "M", "S"))[2:]
         self.assertEqual(answered[0], [len(members)] + members, chosen)
-        self.assertEqual(answered[1], with_text(len(members), restricted(instance, members).text("P")), chosen)
+        part = instance.numbered_anew(members, range(instance.size))
+        self.assertEqual(answered[1], with_text(len(members), part.text("P")), chosen)
         self.assertEqual(answered[2], with_text(instance.size, instance.text("S")), chosen)
 
     def test_example(self):
-        calls = GROUPS + (("part", [3], "Group", "Four", "P"), ("tell", "Group", "P"))
+        calls = SOME_GROUPS + (("part", [3], "Group", "Four", "P"), ("tell", "Group", "P"))
         self.assertEqual(ask(*calls)[5:], [[2, 0, 3], with_text(2, TWO.replace("Two", "P"))])
 
     def test_one_element(self):
         for chosen, members in ((0, [0]), (1, [0, 1, 2]), (2, [0, 1, 2]), (3, [0, 3]), (4, list(range(6)))):
-            self.assertEqual(last(*GROUPS, ("part", [chosen], "Group", "Six", "P")), [len(members)] + members)
+            self.assertEqual(last(*SOME_GROUPS, ("part", [chosen], "Group", "Six", "P")), [len(members)] + members)
 
     def test_several_elements(self):
-        self.assertEqual(last(*GROUPS, ("part", [1, 2], "Group", "Four", "P")), [4, 0, 1, 2, 3])
-        self.assertEqual(last(*GROUPS, ("part", [0, 2], "Group", "Four", "P")), [2, 0, 2])
-        self.assertEqual(last(*GROUPS, ("part", [1, 3], "Group", "Six", "P")), [6, 0, 1, 2, 3, 4, 5])
+        self.assertEqual(last(*SOME_GROUPS, ("part", [1, 2], "Group", "Four", "P")), [4, 0, 1, 2, 3])
+        self.assertEqual(last(*SOME_GROUPS, ("part", [0, 2], "Group", "Four", "P")), [2, 0, 2])
+        self.assertEqual(last(*SOME_GROUPS, ("part", [1, 3], "Group", "Six", "P")), [6, 0, 1, 2, 3, 4, 5])
 
     def test_twice_and_out_of_order(self):
         calls = sized() + [("part", [30, 7, 35, 7, 0, 30, 30], "C", "Most", "P"), ("tell", "C", "P")]
         self.assertEqual(ask(*calls)[3:], [[4, 0, 7, 30, 35], with_text(4, "(instance C P 4 ())")])
-        self.assertEqual(last(*GROUPS, ("part", [2, 0, 2, 0], "Group", "Four", "P")), [2, 0, 2])
-        self.assertEqual(last(*GROUPS, ("part", [3] * 1000, "Group", "Four", "P")), [2, 0, 3])
+        self.assertEqual(last(*SOME_GROUPS, ("part", [2, 0, 2, 0], "Group", "Four", "P")), [2, 0, 2])
+        self.assertEqual(last(*SOME_GROUPS, ("part", [3] * 1000, "Group", "Four", "P")), [2, 0, 3])
 
     def test_none_where_there_are_constants(self):
-        self.assertEqual(last(*GROUPS, ("part", [], "Group", "Six", "P")), [1, 0])
+        self.assertEqual(last(*SOME_GROUPS, ("part", [], "Group", "Six", "P")), [1, 0])
         instance = from_rule(6, lambda: 4, lambda a: (a + 2) % 6)
         self.check(instance, [], [0, 2, 4])
         self.check(from_rule(5, lambda: 3, lambda: 1), [], [1, 3])
@@ -98,7 +82,7 @@ class Parts(unittest.TestCase):
     def test_whole_instance(self):
         instance = scrambled(3, 5, (0, 1, 2))
         self.check(instance, [0, 1, 2, 3, 4], [0, 1, 2, 3, 4])
-        calls = GROUPS + (("part", range(6), "Group", "Six", "P"), ("tell", "Group", "P"), ("tell", "Group", "Six"))
+        calls = SOME_GROUPS + (("part", range(6), "Group", "Six", "P"), ("tell", "Group", "P"), ("tell", "Group", "Six"))
         part, told, old = ask(*calls)[5:]
         self.assertEqual(part, [6, 0, 1, 2, 3, 4, 5])
         self.assertEqual(bytes(told[1:]).decode().replace("Group P", "Group Six"), bytes(old[1:]).decode())
@@ -120,7 +104,7 @@ class Parts(unittest.TestCase):
         self.assertEqual(sizes, {1, 2, 3, 4, 5})
 
     def test_of_a_product(self):
-        calls = GROUPS + (
+        calls = SOME_GROUPS + (
             ("product", "Group", "Six", "Four", "Large"),
             ("part", [10], "Group", "Large", "P"),
             ("tell", "Group", "P"),
@@ -142,7 +126,7 @@ class Parts(unittest.TestCase):
             ("part", [0, 1], "C", "R", "T"),
         ]
         self.assertEqual(ask(*calls)[3:], [[4, 3, 9, 27, 30], [2, 1, 3], [-5], [-5], [2, 0, 1]])
-        groups = GROUPS + (
+        groups = SOME_GROUPS + (
             ("part", [4], "Group", "Six", "P"),
             ("part", [3], "Group", "P", "R"),
             ("part", [1], "Group", "R", "S"),
@@ -151,7 +135,7 @@ class Parts(unittest.TestCase):
         self.assertEqual(ask(*groups)[6:], [[2, 0, 3], [2, 0, 1], with_text(2, TWO.replace("Two", "S"))])
 
     def test_of_a_quotient(self):
-        calls = GROUPS + (("quotient", [0, 1], "Group", "Six", "Q"), ("part", [0], "Group", "Q", "P"))
+        calls = SOME_GROUPS + (("quotient", [0, 1], "Group", "Six", "Q"), ("part", [0], "Group", "Q", "P"))
         self.assertEqual(ask(*calls)[5:], [[2, 0, 0, 0, 3, 3, 3], [1, 0]])
 
     def test_of_the_largest(self):
@@ -173,17 +157,17 @@ class Parts(unittest.TestCase):
         self.assertEqual(last(*calls, ("instance", "(instance C0 P 3 ())")), [-2])
 
     def test_same_name_in_another_class(self):
-        calls = GROUPS + (("class", "(class C () ())"), ("instance", "(instance C P 1 ())"))
+        calls = SOME_GROUPS + (("class", "(class C () ())"), ("instance", "(instance C P 1 ())"))
         self.assertEqual(last(*calls, ("part", [3], "Group", "Four", "P")), [2, 0, 3])
 
     def test_name_of_many_bytes(self):
         name = "N" * 3000
-        calls = GROUPS + (("part", [3], "Group", "Four", name), ("tell", "Group", name))
+        calls = SOME_GROUPS + (("part", [3], "Group", "Four", name), ("tell", "Group", name))
         self.assertEqual(ask(*calls)[5:], [[2, 0, 3], with_text(2, TWO.replace("Two", name))])
 
 
 class Refusals(unittest.TestCase):
-    def part(self, *rows, before=GROUPS):
+    def part(self, *rows, before=SOME_GROUPS):
         return last(*before, ("part",) + rows)
 
     def test_no_such_class_or_instance(self):
@@ -194,12 +178,12 @@ class Refusals(unittest.TestCase):
                     self.assertEqual(self.part(chosen, *rows, name), [-3], rows)
 
     def test_instance_of_another_class(self):
-        before = GROUPS + (("class", "(class C () ())"), ("instance", "(instance C S 1 ())"))
+        before = SOME_GROUPS + (("class", "(class C () ())"), ("instance", "(instance C S 1 ())"))
         self.assertEqual(self.part([0], "Group", "S", "New", before=before), [-3])
         self.assertEqual(self.part([0], "C", "Two", "New", before=before), [-3])
 
     def test_no_upper_name(self):
-        for name in ("", "new", "1", "'N", "N ", " N", "N-", "(N)", "N\n", "N M", '"N"', [78, 200], [0]):
+        for name in NO_UPPER_NAMES:
             self.assertEqual(self.part([0], "Group", "Two", name), [-1], name)
             self.assertEqual(self.part([7], "Group", "Two", name), [-1], name)
 
@@ -207,7 +191,7 @@ class Refusals(unittest.TestCase):
         for name in ("Two", "Three", "Four"):
             self.assertEqual(self.part([0], "Group", "Two", name), [-2])
             self.assertEqual(self.part([7], "Group", "Two", name), [-2])
-        again = GROUPS + (("part", [0], "Group", "Two", "P"),)
+        again = SOME_GROUPS + (("part", [0], "Group", "Two", "P"),)
         self.assertEqual(self.part([0], "Group", "Two", "P", before=again), [-2])
 
     def test_31st_instance(self):

@@ -1,6 +1,6 @@
 import unittest
 
-from tests.helper import FOUR, GROUP, THREE, TWO, ask, last, many_classes, many_instances, with_text
+from tests.helper import FOUR, GROUP, NO_UPPER_NAMES, THREE, TWO, ask, last, many_classes, many_instances, with_text
 
 GROUPS = (("class", GROUP), ("instance", TWO), ("instance", THREE))
 MIXED = (
@@ -114,7 +114,7 @@ class Refusals(unittest.TestCase):
         self.assertEqual(self.product("C", "S", "Two", "New", before=before), [-3])
 
     def test_no_upper_name(self):
-        for name in ("", "new", "1", "'N", "N ", " N", "N-", "(N)", "N\n", "N M", '"N"', [78, 200], [0]):
+        for name in NO_UPPER_NAMES:
             self.assertEqual(self.product("Group", "Two", "Two", name), [-1], name)
 
     def test_name_is_there(self):

@@ -1,17 +1,8 @@
 import itertools
 import unittest
 
-from tests.helper import FOUR, GROUP, THREE, TWO, Plain, ask, from_rule, last, many_classes, many_instances
-from tests.helper import plain_class, scrambled, sized, with_text
-
-GROUPS = (
-    ("class", GROUP),
-    ("instance", TWO),
-    ("instance", THREE),
-    ("product", "Group", "Two", "Two", "Four"),
-    ("product", "Group", "Two", "Three", "Six"),
-)
-LARGE = (10 ** 18, -10 ** 18, 2 ** 32, 2 ** 63 - 1, 256, -256)
+from tests.helper import FOUR, LARGE, NO_UPPER_NAMES, SOME_GROUPS, THREE, TWO, ask, from_rule, last
+from tests.helper import many_classes, many_instances, plain_class, scrambled, sized, with_text
 
 
 def one_with(instance, chosen):
@@ -30,15 +21,6 @@ def one_with(instance, chosen):
     return [min(b for b in range(size) if (a, b) in one) for a in range(size)]
 
 
-def divided(instance, least):
-    members = sorted(set(least))
-    tables = []
-    for table in instance.tables:
-        rows = {row: value for row, value in table.items() if set(row) <= set(members)}
-        tables.append({tuple(map(members.index, row)): members.index(least[value]) for row, value in rows.items()})
-    return Plain(len(members), tables)
-
-
 class Quotients(unittest.TestCase):
     def check(self, instance, chosen, least):
         arities = [len(next(iter(table))) for table in instance.tables]
@@ -46,7 +28,8 @@ class Quotients(unittest.TestCase):
         answered = ask(*calls, ("tell", "M", "Q"), ("tell", "M", "S"))[2:]
         size = len(set(least))
         self.assertEqual(answered[0], [size] + least, chosen)
-        self.assertEqual(answered[1], with_text(size, divided(instance, least).text("Q")), chosen)
+        quotient = instance.numbered_anew(sorted(set(least)), least)
+        self.assertEqual(answered[1], with_text(size, quotient.text("Q")), chosen)
         self.assertEqual(answered[2], with_text(instance.size, instance.text("S")), chosen)
 
     def plain(self, chosen):
@@ -54,17 +37,17 @@ class Quotients(unittest.TestCase):
         return last(*sized(7), ("quotient", chosen, "C", "N7", "Q"))
 
     def test_example(self):
-        calls = GROUPS + (("quotient", [1, 2], "Group", "Four", "Q"), ("tell", "Group", "Q"))
+        calls = SOME_GROUPS + (("quotient", [1, 2], "Group", "Four", "Q"), ("tell", "Group", "Q"))
         self.assertEqual(ask(*calls)[5:], [[2, 0, 1, 1, 0], with_text(2, TWO.replace("Two", "Q"))])
 
     def test_no_pairs(self):
-        calls = GROUPS + (("quotient", [], "Group", "Four", "Q"), ("tell", "Group", "Q"))
+        calls = SOME_GROUPS + (("quotient", [], "Group", "Four", "Q"), ("tell", "Group", "Q"))
         self.assertEqual(ask(*calls)[5:], [[4, 0, 1, 2, 3], with_text(4, FOUR.replace("Four", "Q"))])
         self.assertEqual(self.plain([]), [7, 0, 1, 2, 3, 4, 5, 6])
         self.check(scrambled(5, 5, (0, 1, 2)), [], [0, 1, 2, 3, 4])
 
     def test_with_itself(self):
-        self.assertEqual(last(*GROUPS, ("quotient", [2, 2], "Group", "Four", "Q")), [4, 0, 1, 2, 3])
+        self.assertEqual(last(*SOME_GROUPS, ("quotient", [2, 2], "Group", "Four", "Q")), [4, 0, 1, 2, 3])
         self.assertEqual(self.plain([6, 6, 0, 0, 3, 3, 3, 3]), [7, 0, 1, 2, 3, 4, 5, 6])
         self.assertEqual(self.plain([6, 6, 6, 0]), [6, 0, 1, 2, 3, 4, 5, 0])
 
@@ -132,10 +115,10 @@ class Quotients(unittest.TestCase):
 
     def test_all_made_one(self):
         for pair in ([0, 1], [2, 1], [0, 2]):
-            calls = GROUPS + (("quotient", pair, "Group", "Three", "Q"), ("tell", "Group", "Q"))
+            calls = SOME_GROUPS + (("quotient", pair, "Group", "Three", "Q"), ("tell", "Group", "Q"))
             told = with_text(1, "(instance Group Q 1 ((e 0) (inv 0) (mul 0)))")
             self.assertEqual(ask(*calls)[5:], [[1, 0, 0, 0], told])
-        self.assertEqual(last(*GROUPS, ("quotient", [0, 4], "Group", "Six", "Q")), [1] + [0] * 6)
+        self.assertEqual(last(*SOME_GROUPS, ("quotient", [0, 4], "Group", "Six", "Q")), [1] + [0] * 6)
 
     def test_one_element_in_all(self):
         instance = from_rule(1, lambda: 0, lambda a: 0, lambda a, b: 0)
@@ -161,7 +144,7 @@ class Quotients(unittest.TestCase):
                 self.check(instance, chosen, one_with(instance, chosen))
 
     def test_of_a_product(self):
-        calls = GROUPS + (
+        calls = SOME_GROUPS + (
             ("product", "Group", "Six", "Two", "Twelve"),
             ("quotient", [1, 6], "Group", "Twelve", "Q"),
             ("tell", "Group", "Q"),
@@ -185,7 +168,7 @@ class Quotients(unittest.TestCase):
         answered = ask(*calls)[4:]
         self.assertEqual(answered[:2], [[6, 0, 1, 2, 1, 4, 1, 6, 7], [5, 0, 1, 2, 3, 4, 1]])
         self.assertEqual(answered[2:], [[-5], [-5], [4, 0, 1, 2, 3, 3]])
-        groups = GROUPS + (
+        groups = SOME_GROUPS + (
             ("quotient", [0, 3], "Group", "Six", "Q"),
             ("tell", "Group", "Q"),
             ("quotient", [1, 0], "Group", "Q", "R"),
@@ -227,17 +210,17 @@ class Quotients(unittest.TestCase):
         self.assertEqual(last(*calls, ("instance", "(instance C0 Q 3 ())")), [-2])
 
     def test_same_name_in_another_class(self):
-        calls = GROUPS + (("class", "(class C () ())"), ("instance", "(instance C Q 1 ())"))
+        calls = SOME_GROUPS + (("class", "(class C () ())"), ("instance", "(instance C Q 1 ())"))
         self.assertEqual(last(*calls, ("quotient", [1, 2], "Group", "Four", "Q")), [2, 0, 1, 1, 0])
 
     def test_name_of_many_bytes(self):
         name = "N" * 3000
-        calls = GROUPS + (("quotient", [1, 2], "Group", "Four", name), ("tell", "Group", name))
+        calls = SOME_GROUPS + (("quotient", [1, 2], "Group", "Four", name), ("tell", "Group", name))
         self.assertEqual(ask(*calls)[5:], [[2, 0, 1, 1, 0], with_text(2, TWO.replace("Two", name))])
 
 
 class Refusals(unittest.TestCase):
-    def quotient(self, *rows, before=GROUPS):
+    def quotient(self, *rows, before=SOME_GROUPS):
         return last(*before, ("quotient",) + rows)
 
     def test_no_such_class_or_instance(self):
@@ -248,12 +231,12 @@ class Refusals(unittest.TestCase):
                     self.assertEqual(self.quotient(chosen, *rows, name), [-3], rows)
 
     def test_instance_of_another_class(self):
-        before = GROUPS + (("class", "(class C () ())"), ("instance", "(instance C S 1 ())"))
+        before = SOME_GROUPS + (("class", "(class C () ())"), ("instance", "(instance C S 1 ())"))
         self.assertEqual(self.quotient([], "Group", "S", "New", before=before), [-3])
         self.assertEqual(self.quotient([], "C", "Two", "New", before=before), [-3])
 
     def test_no_upper_name(self):
-        for name in ("", "new", "1", "'N", "N ", " N", "N-", "(N)", "N\n", "N M", '"N"', [78, 200], [0]):
+        for name in NO_UPPER_NAMES:
             for chosen in ([], [0], [7, 7]):
                 self.assertEqual(self.quotient(chosen, "Group", "Two", name), [-1], name)
 
@@ -261,7 +244,7 @@ class Refusals(unittest.TestCase):
         for name in ("Two", "Three", "Four"):
             for chosen in ([], [0], [7, 7]):
                 self.assertEqual(self.quotient(chosen, "Group", "Two", name), [-2])
-        again = GROUPS + (("quotient", [], "Group", "Two", "Q"),)
+        again = SOME_GROUPS + (("quotient", [], "Group", "Two", "Q"),)
         self.assertEqual(self.quotient([], "Group", "Two", "Q", before=again), [-2])
 
     def test_31st_instance(self):
